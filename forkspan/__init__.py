@@ -1,0 +1,1 @@
+"""Forkspan: a runner for many cores."""

@@ -1,0 +1,93 @@
+"""The interface as DOC.md lists it, the form of the package's files, and the examples in README.md."""
+
+import ast
+import doctest
+import importlib
+import inspect
+import pathlib
+import unittest
+
+ROOT = pathlib.Path(__file__).parent.parent
+PACKAGE = ROOT / "forkspan"
+LIBRARY = ("heapq", "math", "itertools", "collections")
+
+# The functions of the interface that have been built, and the names of their parameters.
+INTERFACE = {
+    "programs": {"is_program": ["value"], "words_of": ["program"]},
+    "words": {
+        "is_words": ["value"], "word_in": ["words", "name"], "words_with": ["words", "name", "value"],
+        "operated": ["op", "a", "b"],
+    },
+}
+
+
+def package_files():
+    return sorted(PACKAGE.rglob("*.py"))
+
+
+class Interface(unittest.TestCase):
+    def test_functions_stand_in_their_file_with_their_parameters(self):
+        for module_name, functions in INTERFACE.items():
+            module = importlib.import_module("forkspan." + module_name)
+            for name, parameters in functions.items():
+                with self.subTest(module_name, name=name):
+                    function = getattr(module, name)
+                    self.assertEqual(function.__module__, "forkspan." + module_name)
+                    self.assertEqual(list(inspect.signature(function).parameters), parameters)
+
+
+class Files(unittest.TestCase):
+    def test_the_folder_holds_files_of_the_program_alone(self):
+        others = [path for path in PACKAGE.rglob("*") if path.suffix != ".py" and "__pycache__" not in path.parts]
+        self.assertEqual(others, [])
+        self.assertTrue((PACKAGE / "__init__.py").is_file())
+
+    def test_sizes_and_characters(self):
+        for path in package_files():
+            with self.subTest(path.name):
+                text = path.read_text(encoding="utf-8")
+                self.assertLessEqual({sign for sign in text if not " " <= sign <= "~"}, {"\n"})
+                self.assertLessEqual(len(text.splitlines()), 399)
+                self.assertLessEqual(max([len(line) for line in text.splitlines()]), 120)
+
+    def test_functions_are_small(self):
+        for path in package_files():
+            for node in ast.walk(ast.parse(path.read_text())):
+                if isinstance(node, ast.FunctionDef):
+                    with self.subTest(path.name, function=node.name):
+                        self.assertLessEqual(node.end_lineno - node.lineno + 1, 40)
+
+    def test_imports_are_of_the_package_or_the_allowed_library(self):
+        for path in package_files():
+            for node in ast.walk(ast.parse(path.read_text())):
+                self.assertNotIsInstance(node, ast.Import, path.name)
+                if isinstance(node, ast.ImportFrom):
+                    with self.subTest(path.name, module=node.module):
+                        self.assertEqual(node.level, 0)
+                        if node.module not in LIBRARY:
+                            self.assertTrue(node.module.startswith("forkspan."))
+                            self.defined_in(node)
+
+    def defined_in(self, node):
+        """Each imported name is assigned or defined by the very file that it is imported from."""
+        tree = ast.parse((ROOT / (node.module.replace(".", "/") + ".py")).read_text())
+        defined = []
+        for part in tree.body:
+            if isinstance(part, (ast.FunctionDef, ast.ClassDef)):
+                defined.append(part.name)
+            elif isinstance(part, ast.Assign):
+                defined.append(part.targets[0].id)
+        for alias in node.names:
+            self.assertIn(alias.name, defined)
+            self.assertIsNone(alias.asname)
+
+
+class Readme(unittest.TestCase):
+    def test_the_examples_hold(self):
+        failures, tried = doctest.testfile(str(ROOT / "README.md"), module_relative=False)
+        self.assertEqual(failures, 0)
+        self.assertGreater(tried, 0)
+
+
+if __name__ == "__main__":
+    unittest.main()
