@@ -35,6 +35,12 @@ def table_of(words):
     return {name: value for name, value in words}
 
 
+def words_from(table):
+    """The words of a dict of names and values."""
+    # Words do not tell the value 0.
+    return tuple([(name, table[name]) for name in sorted(table) if table[name] > 0])
+
+
 def word_in(words, name):
     """The value of a name in words."""
     return table_of(words).get(name, 0)
@@ -44,8 +50,7 @@ def words_with(words, name, value):
     """The words in which a name has this value and all others have theirs."""
     table = table_of(words)
     table[name] = value
-    # Words do not tell the value 0.
-    return tuple([(key, table[key]) for key in sorted(table) if table[key] > 0])
+    return words_from(table)
 
 
 def operated(op, a, b):

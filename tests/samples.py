@@ -1,5 +1,8 @@
 """Values that several tests use: right and wrong words, and how to change a part of a value."""
 
+import inspect
+import sys
+
 from forkspan.words import PRIME
 
 KEYWORDS = ("if", "fork", "each", "fold", "start", "await", "max", "min")
@@ -54,3 +57,13 @@ def changed(value, path, part):
         return part
     place = path[0]
     return value[:place] + (changed(value[place], path[1:], part),) + value[place + 1:]
+
+
+def with_few_calls(function, *values):
+    """What a function returns that may go only some 200 calls deep."""
+    limit = sys.getrecursionlimit()
+    sys.setrecursionlimit(len(inspect.stack(0)) + 200)
+    try:
+        return function(*values)
+    finally:
+        sys.setrecursionlimit(limit)

@@ -18,6 +18,22 @@ INTERFACE = {
         "is_words": ["value"], "word_in": ["words", "name"], "words_with": ["words", "name", "value"],
         "operated": ["op", "a", "b"],
     },
+    "programtext": {"program_text": ["program"], "read_program": ["text"]},
+    "serial": {
+        "serial_deeds": ["program", "words"], "serial_end": ["program", "words"],
+        "kind_of": ["program", "words", "deed"], "touched_by": ["program", "words", "deed"],
+        "result_of": ["program", "words", "deed"],
+    },
+    "graphs": {
+        "is_graph": ["value"], "graph_of": ["program", "words"], "work": ["graph"], "span": ["graph"],
+        "heads": ["graph"], "tails": ["graph"], "longest_way": ["graph"], "is_ahead": ["graph", "i", "k"],
+        "beside": ["graph", "i"], "in_series": ["graph", "other"], "in_parallel": ["graph", "other"],
+    },
+    "schedules": {
+        "is_schedule": ["graph", "cores", "value"], "is_greedy": ["graph", "cores", "schedule"],
+        "ready": ["graph", "done"], "listed": ["graph", "cores", "order"], "step_bound": ["graph", "cores"],
+        "idle": ["schedule", "cores"], "cut_down": ["graph", "cores", "schedule"],
+    },
 }
 
 
