@@ -21,3 +21,13 @@ def is_word(value):
 def is_name(value):
     """Whether a value is a word that may be a name, a local or a ticket."""
     return is_word(value) and value not in NO_NAMES
+
+
+def is_integers(value):
+    """Whether a value, of any kind at all, is a tuple of integers, as names of deeds are."""
+    return isinstance(value, tuple) and all([is_integer(part) for part in value])
+
+
+def is_number(value):
+    """Whether a value, of any kind at all, is an integer from 0 on."""
+    return is_integer(value) and value >= 0

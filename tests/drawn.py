@@ -13,9 +13,10 @@ TICKETS = ("t", "u")
 class Draw:
     """Draws programs; if it is loose, locals and awaits stand anywhere, otherwise only where they may stand."""
 
-    def __init__(self, seed, loose=False):
+    def __init__(self, seed, loose=False, names=NAMES):
         self.random = random.Random(seed)
         self.loose = loose
+        self.names = names
 
     def pick(self, things):
         return self.random.choice(list(things))
@@ -30,7 +31,7 @@ class Draw:
         head = self.pick(("number", "number", "word", "word", "local") if given else ("number", "word", "word"))
         if head == "number":
             return ("number", self.pick((0, 1, 2, 3, 4, 5, 6, 7, 100000, PRIME - 1)))
-        return (head, self.pick(NAMES if head == "word" else given))
+        return (head, self.pick(self.names if head == "word" else given))
 
     def program(self, depth=3, longest=3):
         return self.block((), (), depth, longest)
@@ -53,7 +54,7 @@ class Draw:
         if tickets:
             heads += ["await", "await"]
         head = self.pick(heads)
-        name = self.pick(NAMES)
+        name = self.pick(self.names)
         first = self.expression(given)
 
         def inner(more=()):
@@ -83,6 +84,14 @@ def drawn_programs(many, **shape):
     for seed in range(many):
         draw = Draw(seed)
         yield draw.program(**shape), draw.words()
+
+
+def drawn_forks(many, depth=1):
+    """So many programs of blocks side by side that share few words, each with words to begin with."""
+    for seed in range(many):
+        draw = Draw(seed, names=("a", "b"))
+        blocks = tuple([draw.block((), (), depth, 2) for _ in range(draw.random.randint(2, 3))])
+        yield (("fork", blocks),) + draw.block((), (), 0, 1), draw.words()
 
 
 def all_graphs(most):

@@ -34,6 +34,20 @@ INTERFACE = {
         "ready": ["graph", "done"], "listed": ["graph", "cores", "order"], "step_bound": ["graph", "cores"],
         "idle": ["schedule", "cores"], "cut_down": ["graph", "cores", "schedule"],
     },
+    "runs": {
+        "run_plan": ["program", "words", "plan"], "first_ready": ["program", "words"],
+        "finished": ["program", "words", "plan"], "plan_of": ["program", "words", "schedule"],
+        "picked_run": ["program", "words", "cores", "picks"], "all_ends": ["program", "words"],
+    },
+    "races": {
+        "races": ["program", "words"], "first_race": ["program", "words"], "is_calm": ["program", "words"],
+        "race_plans": ["program", "words"], "calm_paper": ["program", "words"],
+        "calm_holds": ["program", "words", "paper"],
+    },
+    "stealing": {
+        "stolen_run": ["program", "words", "cores", "picks"], "row_bound": ["program", "words"],
+        "rows_at": ["program", "words", "cores", "picks", "step"],
+    },
 }
 
 
