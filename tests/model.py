@@ -13,6 +13,18 @@ OPS = {
 }
 
 
+def value_of(expression, table, given):
+    """The value of an expression with these values of words and of locals."""
+    head = expression[0]
+    if head == "number":
+        return expression[1]
+    if head == "word":
+        return table.get(expression[1], 0)
+    if head == "local":
+        return given[expression[1]]
+    return OPS[expression[1]](value_of(expression[2], table, given), value_of(expression[3], table, given))
+
+
 class Model:
     """Runs a program; then names, kinds, behind, touches and results tell of its deeds, and table of its words."""
 
@@ -40,14 +52,7 @@ class Model:
         return [name]
 
     def value(self, expression, given):
-        head = expression[0]
-        if head == "number":
-            return expression[1]
-        if head == "word":
-            return self.table.get(expression[1], 0)
-        if head == "local":
-            return given[expression[1]]
-        return OPS[expression[1]](self.value(expression[2], given), self.value(expression[3], given))
+        return value_of(expression, self.table, given)
 
     def read(self, expression):
         if expression[0] == "do":

@@ -1,6 +1,6 @@
 """Runs by points [8], [9] and [15], in which all that is known is worked out anew ahead of each deed."""
 
-from tests.model import OPS
+from tests.model import OPS, value_of
 
 
 class Plain:
@@ -31,13 +31,13 @@ class Plain:
         kind, statement, given, behind = self.deeds[name]
         result = 0
         if kind == "set":
-            result = self.table[statement[1]] = self.value(statement[2], given)
+            result = self.table[statement[1]] = value_of(statement[2], self.table, given)
         elif kind == "add":
-            result = self.value(statement[3], given)
+            result = value_of(statement[3], self.table, given)
             self.table[statement[1]] = OPS[statement[2]](self.table.get(statement[1], 0), result)
         elif kind in ("if", "each", "fold", "leaf"):
             place = {"if": 1, "each": 2, "fold": 4, "leaf": 5}[kind]
-            result = self.value(statement[place], given)
+            result = value_of(statement[place], self.table, given)
         elif kind == "pair":
             result = OPS[statement[2]](self.results[behind[0]], self.results[behind[1]])
         elif kind == "keep":
@@ -45,16 +45,6 @@ class Plain:
             self.table[statement[1]] = result
         self.results[name] = result
         self.look()
-
-    def value(self, expression, given):
-        head = expression[0]
-        if head == "number":
-            return expression[1]
-        if head == "word":
-            return self.table.get(expression[1], 0)
-        if head == "local":
-            return given[expression[1]]
-        return OPS[expression[1]](self.value(expression[2], given), self.value(expression[3], given))
 
     def deed(self, name, kind, statement, given, behind):
         self.deeds[name] = (kind, statement, given, behind)

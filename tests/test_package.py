@@ -11,7 +11,7 @@ ROOT = pathlib.Path(__file__).parent.parent
 PACKAGE = ROOT / "forkspan"
 LIBRARY = ("heapq", "math", "itertools", "collections")
 
-# The functions of the interface that have been built, and the names of their parameters.
+# The functions and the class of the interface, and the names of their parameters.
 INTERFACE = {
     "programs": {"is_program": ["value"], "words_of": ["program"]},
     "words": {
@@ -48,6 +48,15 @@ INTERFACE = {
         "stolen_run": ["program", "words", "cores", "picks"], "row_bound": ["program", "words"],
         "rows_at": ["program", "words", "cores", "picks", "step"],
     },
+    "least": {
+        "least": ["graph", "cores"], "area_bound": ["graph", "cores"], "window_bound": ["graph", "cores"],
+        "least_schedule": ["graph", "cores"], "length_paper": ["graph", "cores"],
+        "length_holds": ["graph", "cores", "n", "paper"],
+        "least_holds": ["graph", "cores", "n", "schedule", "paper"],
+    },
+    "claims": {"is_claim": ["value"], "claim_holds": ["claim", "paper"], "seal_claim": ["claim"]},
+    "told": {"told": ["value"], "untold": ["text"]},
+    "desk": {"Desk": [], "replayed": ["lines"]},
 }
 
 
@@ -64,6 +73,11 @@ class Interface(unittest.TestCase):
                     function = getattr(module, name)
                     self.assertEqual(function.__module__, "forkspan." + module_name)
                     self.assertEqual(list(inspect.signature(function).parameters), parameters)
+
+    def test_a_desk_defines_its_method_and_sets_its_fields(self):
+        desk = importlib.import_module("forkspan.desk").Desk
+        self.assertEqual(list(inspect.signature(desk.__dict__["run"]).parameters), ["self", "line"])
+        self.assertEqual({"claims": (), "lines": ()}.items() & vars(desk()).items(), {"claims": (), "lines": ()}.items())
 
 
 class Files(unittest.TestCase):

@@ -4,7 +4,7 @@ import itertools
 import random
 import unittest
 
-from forkspan.errors import InvalidProgram, InvalidWords, Undefined
+from forkspan.errors import Undefined
 from forkspan.graphs import graph_of
 from forkspan.programtext import read_program
 from forkspan.races import calm_holds, calm_paper, first_race, is_calm, race_plans, races
@@ -13,9 +13,9 @@ from forkspan.serial import serial_deeds, serial_end
 from tests.drawn import drawn_forks, drawn_programs
 from tests.papers import Traces
 from tests.plain import Plain
+from tests.refusals import Refusals
 from tests.samples import NO_TUPLES, changed, deep, part_at, paths, with_few_calls
 from tests.test_runs import SMALL
-from tests.test_serial import NO_WORDS
 
 LEFT, RIGHT = (0, 0, 0), (0, 1, 0)
 
@@ -314,27 +314,11 @@ class Papers(unittest.TestCase):
         self.assertEqual(len(graph_of(program, ())), len(serial_deeds(program, ())))
 
 
-class Errors(unittest.TestCase):
+class Errors(Refusals, unittest.TestCase):
     FUNCTIONS = (
         races, first_race, is_calm, race_plans, calm_paper,
         lambda program, words: calm_holds(program, words, ()), lambda program, words: calm_holds(program, words, None),
     )
-
-    def test_no_program_ahead_of_all_others(self):
-        for value in NO_TUPLES + ((1,), (("await", "t"),), ("set", "a", ("number", 1))):
-            for words in ((), (("a", 0),), None):
-                for function in self.FUNCTIONS:
-                    with self.assertRaises(InvalidProgram) as caught:
-                        function(value, words)
-                    self.assertIs(caught.exception.value, value)
-
-    def test_no_words(self):
-        for program in ((), read_program("a=1"), read_program("fork{a=1}{a=2}")):
-            for value in NO_WORDS:
-                for function in self.FUNCTIONS:
-                    with self.assertRaises(InvalidWords) as caught:
-                        function(program, value)
-                    self.assertIs(caught.exception.value, value)
 
 
 if __name__ == "__main__":

@@ -4,7 +4,7 @@ import itertools
 import random
 import unittest
 
-from forkspan.errors import InvalidProgram, InvalidWords, NotReady
+from forkspan.errors import NotReady
 from forkspan.graphs import graph_of
 from forkspan.programtext import read_program
 from forkspan.runs import all_ends, finished, first_ready, picked_run, plan_of, run_plan
@@ -12,8 +12,8 @@ from forkspan.schedules import listed
 from forkspan.serial import serial_deeds, serial_end
 from tests.drawn import drawn_forks, drawn_programs
 from tests.plain import Plain
-from tests.samples import NO_TUPLES, with_few_calls
-from tests.test_serial import NO_WORDS
+from tests.refusals import Refusals
+from tests.samples import with_few_calls
 
 FORK = "fork{a=1}{b=2};c=a+b"
 
@@ -356,7 +356,7 @@ class AllEnds(unittest.TestCase):
         self.assertGreater(several, 5)
 
 
-class Errors(unittest.TestCase):
+class Errors(Refusals, unittest.TestCase):
     FUNCTIONS = (
         first_ready, all_ends,
         lambda program, words: run_plan(program, words, [[(9, 9)]]),
@@ -364,22 +364,6 @@ class Errors(unittest.TestCase):
         lambda program, words: plan_of(program, words, ()),
         lambda program, words: picked_run(program, words, 2, ()),
     )
-
-    def test_no_program_ahead_of_all_others(self):
-        for value in NO_TUPLES + ((1,), (("await", "t"),), ("set", "a", ("number", 1))):
-            for words in ((), (("a", 0),), None):
-                for function in self.FUNCTIONS:
-                    with self.assertRaises(InvalidProgram) as caught:
-                        function(value, words)
-                    self.assertIs(caught.exception.value, value)
-
-    def test_no_words(self):
-        for program in ((), read_program("a=1")):
-            for value in NO_WORDS:
-                for function in self.FUNCTIONS:
-                    with self.assertRaises(InvalidWords) as caught:
-                        function(program, value)
-                    self.assertIs(caught.exception.value, value)
 
 
 if __name__ == "__main__":

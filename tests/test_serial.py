@@ -2,15 +2,15 @@
 
 import unittest
 
-from forkspan.errors import InvalidProgram, InvalidWords, Undefined
+from forkspan.errors import Undefined
 from forkspan.programtext import read_program
 from forkspan.serial import kind_of, result_of, serial_deeds, serial_end, touched_by
 from forkspan.words import PRIME, is_words
 from tests.drawn import drawn_programs
 from tests.model import Model
-from tests.samples import NO_TUPLES, with_few_calls
+from tests.refusals import Refusals
+from tests.samples import with_few_calls
 
-NO_WORDS = NO_TUPLES + ((("a", 0),), (("b", 1), ("a", 1)), (("a", 1), ("a", 1)), (("if", 1),), (("a", PRIME),), ("a",))
 NOTHING = ((), (), ())
 
 
@@ -217,29 +217,13 @@ class Touches(Runs):
         self.assertEqual(result_of(program=program, words=(), deed=(0,)), 1)
 
 
-class Errors(unittest.TestCase):
+class Errors(Refusals, unittest.TestCase):
     FUNCTIONS = (
         serial_deeds, serial_end,
         lambda program, words: kind_of(program, words, (9, 9)),
         lambda program, words: touched_by(program, words, (9, 9)),
         lambda program, words: result_of(program, words, (9, 9)),
     )
-
-    def test_no_program_ahead_of_all_others(self):
-        for value in NO_TUPLES + ((1,), (("await", "t"),), ("set", "a", ("number", 1))):
-            for words in ((), (("a", 0),), None):
-                for function in self.FUNCTIONS:
-                    with self.assertRaises(InvalidProgram) as caught:
-                        function(value, words)
-                    self.assertIs(caught.exception.value, value)
-
-    def test_no_words(self):
-        for program in ((), read_program("a=1")):
-            for value in NO_WORDS:
-                for function in self.FUNCTIONS:
-                    with self.assertRaises(InvalidWords) as caught:
-                        function(program, value)
-                    self.assertIs(caught.exception.value, value)
 
 
 class Drawn(unittest.TestCase):

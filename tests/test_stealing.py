@@ -3,7 +3,7 @@
 import random
 import unittest
 
-from forkspan.errors import InvalidNumber, InvalidProgram, InvalidWords
+from forkspan.errors import InvalidNumber
 from forkspan.graphs import graph_of, span, work
 from forkspan.programtext import read_program
 from forkspan.races import is_calm
@@ -13,8 +13,8 @@ from forkspan.serial import kind_of, serial_deeds, serial_end
 from forkspan.stealing import row_bound, rows_at, stolen_run
 from tests.drawn import drawn_forks, drawn_programs
 from tests.plain import Plain
-from tests.samples import NO_TUPLES, deep, with_few_calls
-from tests.test_serial import NO_WORDS
+from tests.refusals import Refusals
+from tests.samples import deep, with_few_calls
 
 FORK = "fork{a=1}{b=2};c=a+b"
 FOUR = "fork{a=1}{b=1}{c=1}{d=1}"
@@ -298,7 +298,7 @@ class Promises(unittest.TestCase):
             self.assertEqual(row_bound(read_program(text), ()), bound, text)
 
 
-class Errors(unittest.TestCase):
+class Errors(Refusals, unittest.TestCase):
     FUNCTIONS = (
         row_bound,
         lambda program, words: stolen_run(program, words, 2, ()),
@@ -306,22 +306,6 @@ class Errors(unittest.TestCase):
         lambda program, words: rows_at(program, words, 2, (), None),
         lambda program, words: rows_at(program, words, 2, (), -1),
     )
-
-    def test_no_program_ahead_of_all_others(self):
-        for value in NO_TUPLES + ((1,), (("await", "t"),), ("set", "a", ("number", 1))):
-            for words in ((), (("a", 0),), None):
-                for function in self.FUNCTIONS:
-                    with self.assertRaises(InvalidProgram) as caught:
-                        function(value, words)
-                    self.assertIs(caught.exception.value, value)
-
-    def test_no_words(self):
-        for program in ((), read_program("a=1")):
-            for value in NO_WORDS:
-                for function in self.FUNCTIONS:
-                    with self.assertRaises(InvalidWords) as caught:
-                        function(program, value)
-                    self.assertIs(caught.exception.value, value)
 
 
 if __name__ == "__main__":
